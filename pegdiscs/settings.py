@@ -1,6 +1,6 @@
 """Settings of discs on three pegs, and the moves from one to the next."""
 
-from pegdiscs.errors import BadDiscs, BadMove, BadPegs, BadSetting
+from pegdiscs.errors import BadDiscs, BadMove, BadPegs, BadSetting, Unlike
 
 MOST_DISCS = 60
 PEGS = (0, 1, 2)
@@ -30,6 +30,14 @@ def check_setting(thing):
         raise BadSetting("a setting is a tuple of at most 60 pegs, each 0, 1 or 2")
 
 
+def check_two(one, other):
+    """Refuse what are no two settings of as many discs."""
+    check_setting(one)
+    check_setting(other)
+    if len(one) != len(other):
+        raise Unlike("the two settings need as many discs")
+
+
 def check_discs(thing):
     """Refuse what is no number of discs."""
     if not is_whole(thing, MOST_DISCS):
@@ -40,6 +48,11 @@ def check_peg(thing):
     """Refuse what is no peg."""
     if not is_peg(thing):
         raise BadPegs("a peg is 0, 1 or 2")
+
+
+def third_peg(one, other):
+    """Tell the peg that is neither of two unlike ones."""
+    return 3 - one - other
 
 
 def perfect(discs, peg):

@@ -46,6 +46,11 @@ def no_settings():
     return wrong
 
 
+def no_discs():
+    """Things that are no number of discs."""
+    return odd_things() + [-1, -60, 61, 62, 10 ** 40, -10 ** 40, (), (3,), [], [3], "3"]
+
+
 def no_moves():
     """Things that are a move at no setting."""
     wrong = odd_things() + [0, 1, [], [0, 1], (), (0,), (1,), (0, 1, 2), (0, 1, 1), ((0, 1),)]
@@ -58,6 +63,21 @@ def no_moves():
 
 def small_settings(most=5):
     return [setting for discs in range(most + 1) for setting in product((0, 1, 2), repeat=discs)]
+
+
+def scattered(discs, start):
+    """A setting without a plain pattern, always the same one for the same start."""
+    found = []
+    at = start
+    for _ in range(discs):
+        at = (at * 1103515245 + 12345) % 2 ** 31
+        found.append(at // 65536 % 3)
+    return tuple(found)
+
+
+def of_digits(text):
+    """The setting whose pegs are the digits of the text, that of disc 0 first."""
+    return tuple(int(digit) for digit in text)
 
 
 def heaps(setting):

@@ -4,7 +4,7 @@ import inspect
 import pathlib
 import unittest
 
-from pegdiscs import errors, settings
+from pegdiscs import beside, errors, settings, towers, ways
 
 FUNCTIONS = {
     settings: {
@@ -13,6 +13,26 @@ FUNCTIONS = {
         "moves": ["setting"],
         "moved": ["setting", "move"],
         "walked": ["setting", "moves"],
+    },
+    ways: {
+        "toward": ["setting", "peg"],
+        "choices": ["one", "other"],
+        "far": ["one", "other"],
+        "many_ways": ["one", "other"],
+        "next_move": ["one", "other"],
+        "ways": ["one", "other"],
+        "way": ["one", "other"],
+    },
+    towers: {
+        "setting_at": ["discs", "begin", "end", "number"],
+        "number_of": ["setting", "begin", "end"],
+    },
+    beside: {
+        "near_moves": ["setting"],
+        "row_number": ["setting"],
+        "row_setting": ["discs", "number"],
+        "near_far": ["one", "other"],
+        "near_way": ["one", "other"],
     },
 }
 
@@ -30,7 +50,10 @@ class Interface(unittest.TestCase):
         folder = pathlib.Path(errors.__file__).parent
         self.assertEqual(folder.name, "pegdiscs")
         there = sorted(path.name for path in folder.iterdir() if path.name != "__pycache__")
-        self.assertEqual(there, ["__init__.py", "errors.py", "settings.py"])
+        self.assertEqual(
+            there,
+            ["__init__.py", "beside.py", "errors.py", "settings.py", "towers.py", "ways.py"],
+        )
 
 
 if __name__ == "__main__":

@@ -5,7 +5,8 @@ from pegdiscs.errors import BadDiscs, BadMove, BadPegs, BadSetting
 from pegdiscs.settings import is_setting, moved, moves, perfect, walked
 
 from samples import (
-    heaps, model_moved, model_moves, no_moves, no_pegs, no_settings, odd_things, small_settings, tower_moves,
+    heaps, model_moved, model_moves, no_discs, no_moves, no_pegs, no_settings, odd_things, small_settings,
+    tower_moves,
 )
 
 SPREAD = (0, 1, 2) * 20
@@ -58,7 +59,7 @@ class Perfect(unittest.TestCase):
             self.assertIs(is_setting(told), True)
 
     def test_what_is_no_number_of_discs_is_refused(self):
-        for discs in odd_things() + [-1, 61, 62, 10 ** 40, -10 ** 40, (), (3,), [], [3], "3"]:
+        for discs in no_discs():
             for peg in (0, 1, 2):
                 with self.assertRaises(BadDiscs):
                     perfect(discs, peg)
